@@ -1,0 +1,1 @@
+"""Roundsteps: places on a ring, come to by told steps."""
