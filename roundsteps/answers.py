@@ -1,6 +1,6 @@
 """The answers, each with what shows it: `shows` asks whether it holds, by the fields as they stand then."""
 
-from roundsteps.rings import come_by, end_of, is_count, is_number, is_place, led_to
+from roundsteps.rings import beyond_first, come_by, end_of, is_count, is_number, is_place, led_to
 
 
 def copied(value):
@@ -122,8 +122,7 @@ class Held(Answer):
         """Whether the part shows that by no count every place is come to."""
         # What goes into two differences goes into theirs, too: those from the
         # first step are enough.
-        differences = [step - steps[0] for step in steps]
-        return is_part(self.part) and goes_into_all(self.part, [ring, *differences])
+        return is_part(self.part) and goes_into_all(self.part, [ring, *beyond_first(steps)])
 
 
 class Right(Answer):

@@ -84,6 +84,16 @@ def led_to(ring, place, step):
     return (place + step) % ring
 
 
+def farther_on(ring, one, other):
+    """How much farther on the other place is than the one."""
+    return (other - one) % ring
+
+
+def beyond_first(steps):
+    """How much each step is greater than the first one."""
+    return [step - steps[0] for step in steps]
+
+
 def end_of(ring, steps, place, way):
     """The place to which a way leads from a place."""
     for count in way:
@@ -105,3 +115,13 @@ def come_by(ring, steps, place, many):
     for at in range(many):
         come = one_more(ring, steps, come)
     return come
+
+
+def common_part(numbers):
+    """The greatest number that goes into all of the numbers."""
+    part = 0
+    for number in numbers:
+        rest = number
+        while rest != 0:
+            part, rest = rest, part % rest
+    return part

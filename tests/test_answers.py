@@ -6,18 +6,7 @@ import unittest
 
 from roundsteps import answers
 from roundsteps.answers import Come, Every, Held, Never, Right, Wrong
-
-HUGE = 10 ** 5000
-
-
-def fewest(ring, steps, one):
-    """By how few steps each place is come to from the one; places that are not come to are left out."""
-    told, now, many = {}, {one}, 0
-    while now:
-        told.update({place: many for place in now})
-        now = {(place + step) % ring for place in now for step in steps} - set(told)
-        many += 1
-    return told
+from tests.helpers import HUGE, come_by, fewest
 
 
 def with_far_ones(ring, steps, one):
@@ -305,14 +294,6 @@ class NeverTest(ShowsTest):
                     for part in parts:
                         self.assertGreaterEqual(part, 2)
                         self.assertEqual([number % part for number in [ring] + steps], [0] * (1 + len(steps)))
-
-
-def come_by(ring, steps, many):
-    """The places that are come to from place 0 by just so many steps."""
-    come = {0}
-    for _ in range(many):
-        come = {(place + step) % ring for place in come for step in steps}
-    return come
 
 
 def least(ring, steps):

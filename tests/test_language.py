@@ -25,6 +25,12 @@ def nodes(file, kind):
     return [node for node in ast.walk(ast.parse(file.read_text())) if isinstance(node, kind)]
 
 
+def module_level_names(file):
+    """The names that are assigned at module level."""
+    assigned = [node for node in ast.parse(file.read_text()).body if isinstance(node, ast.Assign)]
+    return [target for node in assigned for target in node.targets]
+
+
 class Language(unittest.TestCase):
     def test_the_folder_holds_nothing_else(self):
         names = [path.name for path in PACKAGE.iterdir() if path.name != "__pycache__"]
@@ -90,6 +96,37 @@ class Language(unittest.TestCase):
                 bound |= {name.name for node in nodes(file, ast.ImportFrom) for name in node.names}
                 read = {node.id for node in nodes(file, ast.Name) if isinstance(node.ctx, ast.Load)}
                 self.assertEqual(read - bound - BUILTINS, set())
+
+    def test_no_local_name_is_that_of_an_import_or_a_class(self):
+        for file in FILES:
+            with self.subTest(file.name):
+                taken = {name.asname or name.name for node in nodes(file, ast.ImportFrom) for name in node.names}
+                taken |= {node.name for node in nodes(file, ast.ClassDef)}
+                stored = {node.id for node in nodes(file, ast.Name) if isinstance(node.ctx, ast.Store)}
+                stored |= {node.arg for node in nodes(file, ast.arg)}
+                self.assertEqual(stored & taken, set())
+
+    def test_each_name_is_bound_once_and_imported_from_where_it_is_defined(self):
+        bound = {}
+        for file in FILES:
+            names = [node.name for node in ast.parse(file.read_text()).body if hasattr(node, "name")]
+            names += [node.id for node in module_level_names(file)]
+            bound["roundsteps." + file.stem] = names
+            imported = [name.name for node in nodes(file, ast.ImportFrom) for name in node.names]
+            self.assertEqual(len(names + imported), len(set(names + imported)), file.name)
+        for file in FILES:
+            for node in nodes(file, ast.ImportFrom):
+                self.assertEqual([name.name for name in node.names if name.name not in bound[node.module]], [])
+
+    def test_no_two_files_import_from_each_other(self):
+        needs = {}
+        for file in FILES:
+            needs["roundsteps." + file.stem] = {node.module for node in nodes(file, ast.ImportFrom)}
+        while needs:
+            free = [name for name in needs if not needs[name] & set(needs)]
+            self.assertNotEqual(free, [], needs)
+            for name in free:
+                del needs[name]
 
     def test_no_name_is_a_method_here_and_an_attribute_there(self):
         methods, attributes = set(), set()

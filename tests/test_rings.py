@@ -1,31 +1,12 @@
 """Points 1 and 2: rings, steps, places, where a step leads, and the refusals."""
 
 import copy
+import math
 import unittest
 
 from roundsteps import rings
 from roundsteps.errors import BadPlace, BadRing, BadSteps
-
-ENDLESS = []
-ENDLESS.append(ENDLESS)
-
-
-class Odd:
-    """A thing that answers no question."""
-
-    def __eq__(self, other):
-        raise AssertionError("compared")
-
-    __hash__ = None
-    __lt__ = __le__ = __gt__ = __ge__ = __ne__ = __len__ = __bool__ = __iter__ = __eq__
-
-
-# Of these none is a number, and none is a list of steps.
-NEITHER = (
-    True, False, None, "", "1", "ab", b"", b"1", (), (1,), (1, 2), {}, {1: 2}, set(), {1},
-    frozenset(), range(3), iter([1]), object(), int, len, Odd(), ENDLESS, [],
-)
-HUGE = 10 ** 5000
+from tests.helpers import HUGE, NEITHER
 
 
 class Numbers(unittest.TestCase):
@@ -201,6 +182,22 @@ class Come(unittest.TestCase):
                         told = rings.come_by(ring, steps, place, many)
                         self.assertEqual(told, [at in come for at in range(ring)])
                         come = {(at + step) % ring for at in come for step in steps}
+
+
+class Parts(unittest.TestCase):
+    def test_how_much_farther_on(self):
+        for ring in (1, 2, 7, 60):
+            for one in range(ring):
+                for more in range(ring):
+                    self.assertEqual(rings.farther_on(ring, one, (one + more) % ring), more)
+
+    def test_the_greatest_that_goes_into_all(self):
+        for numbers in ([1], [60], [0, 12], [12, 0, 0], [12, 18], [18, 12], [7, 5], [60, 24, 36], [6, 10, 15], [9, 9]):
+            part = max(part for part in range(1, 61) if all(number % part == 0 for number in numbers))
+            self.assertEqual(rings.common_part(numbers), part)
+        for one in range(1, 61):
+            for other in range(61):
+                self.assertEqual(rings.common_part([one, other]), math.gcd(one, other))
 
 
 if __name__ == "__main__":
