@@ -58,7 +58,6 @@ class Told(unittest.TestCase):
         self.assertEqual(told(60, [1], 7, 6).way, [0] * 59)
         self.assertEqual(told(60, [1, 59], 7, 6).way, [1])
         self.assertEqual(told(1, [60], 0, 0).way, [])
-        self.assertEqual(told(5, [2, 3], 0, 1).heights, [0, 2, 1, 1, 2])
 
     def test_places_to_which_no_way_leads_have_heights(self):
         come = told(6, [2], 1, 3)
