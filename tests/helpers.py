@@ -76,3 +76,32 @@ def come_by(ring, steps, many):
     for _ in range(many):
         come = moved(ring, come, steps)
     return come
+
+
+def drawn_walks(many):
+    """So many rings with steps, a place and deeds: the counts of steps gone, None where the last is taken back."""
+    draw = random.Random(many)
+    for ring, steps in list(EDGES) + list(drawn_rings(many)):
+        place, deeds, held = draw.randrange(ring), [], 0
+        for _ in range(draw.randint(0, 60)):
+            back = held > 0 and draw.random() < 0.4
+            deeds.append(None if back else draw.randrange(len(steps)))
+            held += -1 if back else 1
+        yield ring, steps, place, deeds
+
+
+def account(ring, steps, place, deeds):
+    """What a walker tells behind these deeds: its place, gone, stood, around and tale."""
+    gone, tale, at = [], [], place
+    for deed in deeds:
+        gone = gone[:-1] if deed is None else gone + [deed]
+        at = (place + sum(steps[count] for count in gone)) % ring
+        tale.append(("back", at) if deed is None else ("go", deed, at))
+    stands = [place] + [line[-1] for line in tale]
+    stood = [stands.count(other) for other in range(ring)]
+    return at, gone, stood, sum(steps[count] for count in gone) // ring, tale
+
+
+def all_told(walker):
+    """What a walker tells, in the order of an account."""
+    return walker.place(), walker.gone(), walker.stood(), walker.around(), walker.tale()
